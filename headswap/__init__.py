@@ -1,0 +1,1 @@
+"""Headswap: endless rows of noughts and ones whose heads are exchanged."""
