@@ -8,8 +8,8 @@ from headswap import heads
 from headswap.errors import BadHead
 from headswap.heads import LONGEST, apart, common, fault, fewest, is_head
 
-NO_HEADS = ("2", "01 ", " 01", "0 1", "-", "a", "0a1", "1\n", "\n", "0\n1", "O", "l", "()", "0.", "~", "0" * 61, "1" * 61,
-            "01" * 30 + "0", "0" * 60 + "x", "0" * 4000, "x" * 60)
+NO_HEADS = ("2", "01 ", " 01", "0 1", "-", "a", "0a1", "1\n", "\n", "0\n1", "O", "l", "()", "0.", "~", "0" * 61,
+            "1" * 61, "01" * 30 + "0", "0" * 60 + "x", "0" * 4000, "x" * 60)
 
 
 def words(longest):

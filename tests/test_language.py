@@ -23,14 +23,15 @@ join keys ljust lower lstrip partition pop remove replace reverse rfind rjust rp
 splitlines startswith strip update upper values zfill bit_length add discard sort translate maketrans removeprefix
 removesuffix rindex isascii isdecimal isnumeric title center __init__""".split())
 ALLOWED_DOUBLE = {"__init__", "__eq__", "__repr__", "__str__", "__len__"}
-BARRED_WORDS = re.compile(r"\b(type|typing|typing_extensions|enum|Enum|IntEnum|StrEnum|Flag|IntFlag|Generic|Protocol|ABC"
-                          r"|ABCMeta|namedtuple|NamedTuple|TypedDict|TYPE_CHECKING|abstractmethod)\b"
+BARRED_WORDS = re.compile(r"\b(type|typing|typing_extensions|enum|Enum|IntEnum|StrEnum|Flag|IntFlag|Generic|Protocol"
+                          r"|ABC|ABCMeta|namedtuple|NamedTuple|TypedDict|TYPE_CHECKING|abstractmethod)\b"
                           r"|dataclass|overload|contextmanager")
 BARRED_NAMES = set("""
 register mro elements open input version_info with_traceback add_note attrgetter breakpoint builtins compile copyright
 credits delattr dir eval exec exit gc getattr globals hasattr help id importlib license locals methodcaller os quit
 setattr vars sys""".split())
-BARRED_NODES = (ast.Global, ast.AsyncFunctionDef, ast.AsyncFor, ast.AsyncWith, ast.Await, ast.Import, ast.Div, ast.MatMult)
+BARRED_NODES = (ast.Global, ast.AsyncFunctionDef, ast.AsyncFor, ast.AsyncWith, ast.Await, ast.Import, ast.Div,
+                ast.MatMult)
 AT_THE_TOP = (ast.ImportFrom, ast.FunctionDef, ast.ClassDef, ast.Assign)
 
 
