@@ -21,10 +21,21 @@ def need_head(text):
         raise BadHead(f"a head is at most {LONGEST} signs, each 0 or 1")
 
 
+def need_signs(text):
+    """Refuse a text, of any length, that has another sign than 0 and 1."""
+    if not only_signs(text):
+        raise BadHead("a head has no signs but 0 and 1")
+
+
 def apart(one, other):
     """Tell whether neither of two heads is below the other one."""
     need_head(one)
     need_head(other)
+    return stand_apart(one, other)
+
+
+def stand_apart(one, other):
+    """Tell whether two heads, of any length, are apart."""
     return not one.startswith(other) and not other.startswith(one)
 
 

@@ -7,8 +7,7 @@ from unittest import mock
 
 from headswap.endless import SHOWN, Endless, read_endless
 from headswap.errors import BadHead, BadNumber, BadRing, BadText
-
-NO_HEADS = ("2", "01 ", " 01", "0 1", "-", "a", "1\n", "0a1", "(0)", "0" * 61, "1" * 61, "0" * 60 + "x")
+from helping import NO_HEADS, words
 
 # head, ring, how the row is written
 WRITTEN = (
@@ -44,10 +43,6 @@ NO_ROWS = (
     "-", "[0]", "0[1]", ")0(", "01(1a)", "a01(1)", "01(10)'", "(0(1))", "(-)", "0(-)", "(0)0", "Endless(01(10))",
     "x" * 4000, "0" * 4000, "0" * 3997 + "(x)",
 )
-
-
-def words(longest):
-    return ["".join(signs) for many in range(longest + 1) for signs in itertools.product("01", repeat=many)]
 
 
 def unrolled(head, ring, many=64):

@@ -7,35 +7,7 @@ import unittest
 from headswap import heads
 from headswap.errors import BadHead
 from headswap.heads import LONGEST, apart, common, fault, fewest, is_head
-
-NO_HEADS = ("2", "01 ", " 01", "0 1", "-", "a", "0a1", "1\n", "\n", "0\n1", "O", "l", "()", "0.", "~", "0" * 61,
-            "1" * 61, "01" * 30 + "0", "0" * 60 + "x", "0" * 4000, "x" * 60)
-
-
-def words(longest):
-    """All heads of at most so many signs."""
-    return ["".join(signs) for many in range(longest + 1) for signs in itertools.product("01", repeat=many)]
-
-
-def long_words(many):
-    """All heads of just so many signs: each stands for the rows under it."""
-    return ["".join(signs) for signs in itertools.product("01", repeat=many)]
-
-
-def cuts(deep):
-    """All cuts with heads of at most so many signs, in order."""
-    if deep == 0:
-        return [[""]]
-    parts = cuts(deep - 1)
-    told = [[""]]
-    for left in parts:
-        for right in parts:
-            told.append(["0" + head for head in left] + ["1" + head for head in right])
-    return told
-
-
-def not_apart(one, other):
-    return one[:len(other)] == other or other[:len(one)] == one
+from helping import NO_HEADS, cuts, long_words, not_apart, words
 
 
 def is_cut(some, deep):

@@ -20,7 +20,7 @@ StopIteration NotImplemented""".split())
 ALLOWED_METHODS = set("""
 append clear copy count endswith extend find get index insert isalnum isalpha isdigit islower isspace isupper items
 join keys ljust lower lstrip partition pop remove replace reverse rfind rjust rpartition rsplit rstrip setdefault split
-splitlines startswith strip update upper values zfill bit_length add discard sort translate maketrans removeprefix
+splitlines startswith strip update upper values zfill bit_length add discard translate maketrans removeprefix
 removesuffix rindex isascii isdecimal isnumeric title center __init__""".split())
 ALLOWED_DOUBLE = {"__init__", "__eq__", "__repr__", "__str__", "__len__"}
 BARRED_WORDS = re.compile(r"\b(type|typing|typing_extensions|enum|Enum|IntEnum|StrEnum|Flag|IntFlag|Generic|Protocol"
@@ -150,6 +150,24 @@ class Code(unittest.TestCase):
             self.assertEqual(node.args.posonlyargs, [], path)
         for path, node in nodes((ast.FunctionDef, ast.ClassDef)):
             self.assertEqual(node.decorator_list, [], (path, node.name))
+
+    def test_lists_where_things_are_compared(self):
+        for path, node in nodes(ast.Call):
+            if isinstance(node.func, ast.Name) and node.func.id in ("any", "all", "min", "max", "sum", "sorted"):
+                for value in node.args:
+                    self.assertNotIsInstance(value, ast.GeneratorExp, (path, node.lineno))
+
+    def test_iterated_on_the_spot(self):
+        for path, node in nodes((ast.Assign, ast.Return)):
+            if isinstance(node.value, ast.Call):
+                name = getattr(node.value.func, "id", getattr(node.value.func, "attr", None))
+                barred = ("zip", "enumerate", "reversed", "range", "items", "keys", "values")
+                self.assertNotIn(name, barred, (path, node.lineno))
+
+    def test_no_power_but_a_literal_one(self):
+        for path, node in nodes((ast.BinOp, ast.AugAssign)):
+            if isinstance(node.op, ast.Pow):
+                self.fail((path, node.lineno))
 
     def test_raise(self):
         for path, node in nodes(ast.Raise):
