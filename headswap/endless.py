@@ -33,8 +33,7 @@ class Endless:
     def behind(self, many):
         """Tell the row without its first so many signs."""
         need_number(many)
-        turn = max(0, many - len(self.plain_head)) % len(self.plain_ring)
-        return row_of(self.plain_head[many:], self.plain_ring[turn:] + self.plain_ring[:turn])
+        return without(self, many)
 
     def under(self, head):
         """Tell the row with a head's signs ahead of it."""
@@ -74,6 +73,18 @@ def first_signs(row, many):
     """Tell the first so many signs of a row, however many."""
     times = max(0, many - len(row.plain_head)) // len(row.plain_ring) + 1
     return (row.plain_head + row.plain_ring * times)[:many]
+
+
+def sign_at(row, at):
+    """Tell the sign of a row at a place, from 0 on."""
+    inner = at - len(row.plain_head)
+    return row.plain_head[at] if inner < 0 else row.plain_ring[inner % len(row.plain_ring)]
+
+
+def without(row, many):
+    """Tell a row without its first so many signs, however many."""
+    turn = max(0, many - len(row.plain_head)) % len(row.plain_ring)
+    return row_of(row.plain_head[many:], row.plain_ring[turn:] + row.plain_ring[:turn])
 
 
 def plain_form(head, ring):

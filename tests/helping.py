@@ -9,6 +9,20 @@ NO_HEADS = ("2", "01 ", " 01", "0 1", "-", "a", "0a1", "1\n", "\n", "0\n1", "O",
 OTHER_SIGNS = tuple(text for text in NO_HEADS if text.strip("01"))
 
 
+def told_by(text):
+    """The exchange of a table as it is written, without its brackets."""
+    return Swap([tuple(row.replace("-", "").split(">")) for row in text.split()])
+
+
+# Where parts are done first, a pass of these comes upon gates of several rows.
+PARTED = [told_by(text) for text in (
+    "00>10 01>111 10>1100 1100>01 1101>00 111>1101",
+    "0>11100 10>11101 110000>0 110001>10 11001>1101 1101>1111 1110>11001 1111>11000",
+    "0>11001 100>11000 101>1101 1100>1111 1101>1110 11100>100 11101>0 1111>101",
+    "000>01100 0010>010 0011>000 010>01101 01100>0111 01101>1 0111>0010 1>0011",
+    "0000>0011 0001>0010 0010>01 00110>11 00111>10 01>0000 10>00011 11>00010")]
+
+
 def words(longest):
     """All heads of at most so many signs."""
     return ["".join(signs) for many in range(longest + 1) for signs in itertools.product("01", repeat=many)]
@@ -115,3 +129,43 @@ def doubling(many):
     for at in range(0, many - 1, 2):
         inner[at], inner[at + 1] = (cut[at], cut[at + 1]), (cut[at + 1], cut[at])
     return Swap([("0", "1")] + [("1" + head, "0" + other) for head, other in inner])
+
+
+def drawn_cut(lots, many):
+    """A cut of so many heads, in order, drawn by lot."""
+    cut = [""]
+    while len(cut) < many:
+        head = cut.pop(lots.randrange(len(cut)))
+        cut += [head + "0", head + "1"]
+    return sorted(cut)
+
+
+def drawn_swap(lots, many):
+    """An exchange told by so many rows, drawn by lot."""
+    others = drawn_cut(lots, many)
+    lots.shuffle(others)
+    return Swap(list(zip(drawn_cut(lots, many), others)))
+
+
+def wheel(lots, *turns):
+    """An exchange that leads the heads of a cut, drawn by lot, round in cycles of so many."""
+    heads = drawn_cut(lots, sum(turns))
+    lots.shuffle(heads)
+    rows = []
+    for turn in turns:
+        ring = [heads.pop() for _ in range(turn)]
+        rows += zip(ring, ring[1:] + ring[:1])
+    return Swap(rows)
+
+
+def counter(many):
+    """The exchange of many + 1 rows that adds one, carried to the right: all rows come round after 2 ** many times."""
+    return Swap([("1" * at + "0", "0" * at + "1") for at in range(many)] + [("1" * many, "0" * many)])
+
+
+def is_cut(heads):
+    """Whether heads, of any length, are a cut."""
+    heads = sorted(heads)
+    deepest = max([len(head) for head in heads], default=0)
+    return (not any(after.startswith(head) for head, after in zip(heads, heads[1:]))
+            and sum(2 ** (deepest - len(head)) for head in heads) == 2 ** deepest)
