@@ -46,6 +46,7 @@ class Course:
         web.last()
         self.net = web.net
         self.outgoing = web.net.starts_of()
+        self.incoming = web.net.ends_of()
         self.fates = {}
         self.makers = {}
         for change in web.changes:
@@ -58,6 +59,10 @@ class Course:
     def loops(self):
         """Tell, by the numbers of loops, how many gates stand on each."""
         return {arc: many for arc, (begin, end, many) in self.net.lines.items() if begin is None}
+
+    def rings(self):
+        """Tell the rings of cuts and those of joins."""
+        return list(self.leaving_rings.values()) + list(self.drawing_rings.values())
 
     def located(self, row):
         """Tell on which arc and at which gate there a row stands, and as what."""

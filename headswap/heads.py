@@ -55,6 +55,13 @@ def fault(heads):
     return ("none", missing)
 
 
+def is_cut(heads):
+    """Tell whether heads, of any length, are a cut."""
+    placed = sorted(heads)
+    neighbours_apart = [stand_apart(head, after) for head, after in zip(placed, placed[1:])]
+    return all(neighbours_apart) and left_out(placed) is None
+
+
 def left_out(heads):
     """Tell a head that is apart from all these, which are apart and in order, or None of a cut."""
     sought = ""

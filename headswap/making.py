@@ -7,14 +7,7 @@ from headswap.terms import folded, names_in
 
 def made(term, *, names=()):
     """Tell the exchange of a term by the terms that names stand for."""
-    leans = leanings(term, names)
-    swaps = {}
-    # No name leans on itself: so each time round some name has all that it leans on made.
-    while len(swaps) < len(leans):
-        for name in leans:
-            if name not in swaps and all([inner in swaps for inner in leans[name]]):
-                swaps[name] = made_or_none(names[name], swaps)
-    return made_by(term, swaps)
+    return made_by(term, made_names(leanings(term, names), names))
 
 
 def leanings(term, names):
@@ -29,6 +22,17 @@ def leanings(term, names):
             told[name] = names_in(names[name])
             left.extend(told[name])
     return told
+
+
+def made_names(leans, names):
+    """Tell the exchanges of names by the names in the terms that they stand for, None of one that is too great."""
+    swaps = {}
+    # No name leans on itself: so each time round some name has all that it leans on made.
+    while len(swaps) < len(leans):
+        for name in leans:
+            if name not in swaps and all([inner in swaps for inner in leans[name]]):
+                swaps[name] = made_or_none(names[name], swaps)
+    return swaps
 
 
 def made_or_none(term, swaps):

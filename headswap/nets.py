@@ -30,6 +30,10 @@ class Net:
         """Tell the arcs by the ways of knots where they begin."""
         return {begin: arc for arc, (begin, end, many) in self.lines.items() if begin is not None}
 
+    def ends_of(self):
+        """Tell the arcs by the ways of knots where they end."""
+        return {end: arc for arc, (begin, end, many) in self.lines.items() if end is not None}
+
     def lay(self, begin, end, many):
         """Make a new arc and tell its number; no number is given twice."""
         arc = self.fresh

@@ -10,6 +10,11 @@ FIGURES = "0123456789"
 SINGLE = "[]{}>*~':()"
 
 
+def is_name(text):
+    """Tell whether a text is a name."""
+    return 0 < len(text) <= MOST_LETTERS and text.strip(LETTERS) == "" and text != "one"
+
+
 def things_of(text):
     """Tell the things of a text as (kind, worth, place), from left to right, behind them ("end", "", its length)."""
     told = []

@@ -48,6 +48,20 @@ class Classes(unittest.TestCase):
     def test_each_is_its_own(self):
         self.assertEqual(len({getattr(errors, name) for name in STRAIGHT_ABOVE}), len(STRAIGHT_ABOVE))
 
+    def test_each_against_all_others(self):
+        for name, above in STRAIGHT_ABOVE.items():
+            lineage = {name}
+            while above.__name__ in STRAIGHT_ABOVE:
+                lineage.add(above.__name__)
+                above = STRAIGHT_ABOVE[above.__name__]
+            made = getattr(errors, name)()
+            for other in STRAIGHT_ABOVE:
+                self.assertEqual(isinstance(made, getattr(errors, other)), other in lineage, (name, other))
+            for base in (ValueError, LookupError, RuntimeError):
+                self.assertEqual(isinstance(made, base), base is above, (name, base))
+            for base in (KeyError, IndexError, TypeError, ArithmeticError, NotImplementedError):
+                self.assertNotIsInstance(made, base)
+
     def test_made_without_anything(self):
         for name, above in STRAIGHT_ABOVE.items():
             with self.subTest(name), self.assertRaises(above):
