@@ -320,6 +320,14 @@ class Shows(unittest.TestCase):
                          [("0", text), ("1", "1"), ("", "")]):
                 self.assertFalse(self.both(Swap(), Swap(), rows))
 
+    def test_other_signs_where_heads_would_be_a_cut(self):
+        for sign in " -~x2\n":
+            for odd in ([f"0{sign}", "01", "1"], [f"{sign}", "1"], ["0", f"1{sign}", "11"], [f"00{sign}", "001", "01",
+                                                                                             "1"]):
+                for even in (["0", "10", "11"], ["00", "01", "1"], odd):
+                    self.assertFalse(self.both(Swap(), Swap(), list(zip(odd, even))))
+                    self.assertFalse(self.both(Swap(), Swap(), list(zip(even, odd))))
+
     def test_two_unlike_ones(self):
         for third in [Swap(rows) for rows in tables(3)]:
             self.assertFalse(self.both(MAIN, MAIN.power(2), third.rows()))
